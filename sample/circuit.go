@@ -64,3 +64,30 @@ func (s *Source) Values(variables int) []bool {
 	}
 	return out
 }
+
+// Clauses returns a formula in conjunctive normal form whose clauses have at most the given number of literals.
+func (s *Source) Clauses(variables, clauses, width int) api.CNF {
+	f := api.CNF{Vars: variables}
+	for range clauses {
+		f.Clauses = append(f.Clauses, s.Clause(variables, width))
+	}
+	return f
+}
+
+// Clause returns a clause with 1 to width literals, which may be repeated.
+func (s *Source) Clause(variables, width int) []int {
+	var clause []int
+	for range s.Between(1, width) {
+		clause = append(clause, s.Literal(variables))
+	}
+	return clause
+}
+
+// Literal returns a literal.
+func (s *Source) Literal(variables int) int {
+	v := s.Between(1, variables)
+	if s.Chance(50) {
+		return -v
+	}
+	return v
+}
