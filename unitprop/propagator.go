@@ -48,11 +48,11 @@ func (q *queue) Pop() any {
 	return x
 }
 
-// propagated returns the propagator of a formula and assumptions at the end of the propagation.
+// propagated returns the propagator of a formula and assumptions at the end of the propagation. Nothing follows from a formula with literals out of range.
 func propagated(f api.CNF, assume []int) (p *propagator) {
 	defer func() {
 		if recover() != nil {
-			p = &propagator{conflict: contradictory}
+			p = &propagator{conflict: noConflict}
 		}
 	}()
 	p = newPropagator(f)

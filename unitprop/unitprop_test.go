@@ -51,7 +51,7 @@ func TestExamples(t *testing.T) {
 	if !Implies(formula(1, []int{}), nil) || !Implies(formula(1, []int{1}, []int{-1}), nil) {
 		t.Error("the empty clause")
 	}
-	if implied, conflict := Propagate(f, []int{99}); implied != nil || conflict != -2 {
+	if implied, conflict := Propagate(f, []int{99}); implied != nil || conflict != -1 || Implies(f, []int{-99}) {
 		t.Error("an assumption out of range")
 	}
 }
