@@ -66,3 +66,28 @@ func Ints(l []int) []int {
 func Lists(l [][]int) [][]int {
 	return Slice(l, Ints)
 }
+
+// Spec copies a specification.
+func Spec(sp api.Spec) api.Spec {
+	return api.Spec{
+		Sorts:  slices.Clone(sp.Sorts),
+		Fields: Slice(sp.Fields, Field),
+		Preds:  Slice(sp.Preds, Pred),
+		Facts:  Slice(sp.Facts, Fact),
+	}
+}
+
+// Field copies a field.
+func Field(f api.Field) api.Field {
+	return api.Field{Name: f.Name, Sorts: slices.Clone(f.Sorts), Var: f.Var}
+}
+
+// Pred copies a predicate.
+func Pred(q api.Pred) api.Pred {
+	return api.Pred{Name: q.Name, Params: slices.Clone(q.Params), Body: Node(q.Body)}
+}
+
+// Fact copies a fact.
+func Fact(f api.Fact) api.Fact {
+	return api.Fact{Name: f.Name, Body: Node(f.Body)}
+}
