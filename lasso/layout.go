@@ -26,10 +26,10 @@ func newLayout(sp api.Spec, sc api.Scope, b []api.Bound) *layout {
 		b = nil
 	}
 	l := &layout{Scope: sc, fields: sp.Fields, bounds: b, numbers: map[place]int{}}
-	next := l.selections() + 1
 	for at := range l.free {
-		l.numbers[at] = next
-		next++
+		if _, ok := l.numbers[at]; !ok {
+			l.numbers[at] = l.variables() + 1
+		}
 	}
 	return l
 }

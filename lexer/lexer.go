@@ -101,29 +101,35 @@ func (c *scanner) current() byte {
 	return c.text[c.at]
 }
 
+// onSpace reports whether the current byte is white space.
 func (c *scanner) onSpace() bool {
 	b := c.current()
 	return b == ' ' || b == '\t' || b == '\n' || b == '\r'
 }
 
+// onComment reports whether a comment starts at the current position.
 func (c *scanner) onComment() bool {
 	return c.current() == '/' && c.at+1 < len(c.text) && c.text[c.at+1] == '/'
 }
 
+// insideLine reports whether the current line goes on.
 func (c *scanner) insideLine() bool {
 	return c.at < len(c.text) && c.text[c.at] != '\n'
 }
 
+// onLetter reports whether the current byte is a letter.
 func (c *scanner) onLetter() bool {
 	b := c.current()
 	return 'a' <= b && b <= 'z' || 'A' <= b && b <= 'Z'
 }
 
+// onDigit reports whether the current byte is a digit.
 func (c *scanner) onDigit() bool {
 	b := c.current()
 	return '0' <= b && b <= '9'
 }
 
+// onWord reports whether the current byte can belong to an identifier.
 func (c *scanner) onWord() bool {
 	return c.onLetter() || c.onDigit() || c.current() == '_'
 }

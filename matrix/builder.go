@@ -2,35 +2,22 @@ package matrix
 
 import (
 	"iter"
-	"slices"
 
 	"armature/api"
-	"armature/circuit"
+	"armature/gates"
 )
 
 // absent is the reference of a tuple without a cell: the constant false.
 const absent api.Ref = 1
 
-// builder is a circuit that grows.
+// builder embeds the circuit that grows.
 type builder struct {
-	api.Circuit
+	*gates.Growing
 }
 
-// newBuilder returns a builder that begins with a copy of a circuit.
+// newBuilder returns a builder that begins with a circuit.
 func newBuilder(c api.Circuit) *builder {
-	return &builder{api.Circuit{Gates: slices.Clone(c.Gates)}}
-}
-
-// and returns the conjunction of two references.
-func (w *builder) and(a, b api.Ref) (r api.Ref) {
-	w.Circuit, r = circuit.And(w.Circuit, a, b)
-	return r
-}
-
-// or returns the disjunction of two references.
-func (w *builder) or(a, b api.Ref) (r api.Ref) {
-	w.Circuit, r = circuit.Or(w.Circuit, a, b)
-	return r
+	return &builder{gates.From(c)}
 }
 
 // algebra is a builder for operations that depend on the number of atoms.
@@ -39,7 +26,7 @@ type algebra struct {
 	atoms int
 }
 
-// newAlgebra returns an algebra that begins with a copy of a circuit.
+// newAlgebra returns an algebra that begins with a circuit.
 func newAlgebra(c api.Circuit, n int) *algebra {
 	return &algebra{newBuilder(c), n}
 }

@@ -44,6 +44,9 @@ func newSearch(sp api.Spec, sc api.Scope, b []api.Bound, n api.Node, fields []in
 
 // relevant returns the variables that select the loop, and those of the tuples of some fields.
 func relevant(sp api.Spec, sc api.Scope, b []api.Bound, fields []int) []int {
+	if len(b) != len(sp.Fields) {
+		return nil
+	}
 	var out []int
 	v := 0
 	next := func(isRelevant bool) {
@@ -59,7 +62,7 @@ func relevant(sp api.Spec, sc api.Scope, b []api.Bound, fields []int) []int {
 	}
 	for state := range sc.Steps {
 		for _, x := range bounds.Free(b) {
-			if state == 0 || x[0] < len(sp.Fields) && sp.Fields[x[0]].Var {
+			if state == 0 || sp.Fields[x[0]].Var {
 				next(slices.Contains(fields, x[0]))
 			}
 		}

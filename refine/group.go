@@ -40,8 +40,11 @@ func (x pattern) permits(p []int, last int) bool {
 	return true
 }
 
-// Group returns all symmetries of the bounds.
+// Group returns all symmetries of the bounds; there are none for a scope that is not valid.
 func Group(sp api.Spec, sc api.Scope, b []api.Bound) [][]int {
+	if !universe.Valid(sp, sc) {
+		return nil
+	}
 	class := classes(sp, sc, b)
 	var patterns []pattern
 	for _, r := range relations(b) {
