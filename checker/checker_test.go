@@ -46,7 +46,7 @@ func TestCheck(t *testing.T) {
 		{both, [][]int{swap, flip}, []api.Step{symmetry(1, -1, 2, 2), symmetry(0, -2, 1)}, 2, api.OK}, {both, [][]int{{2, -1}}, []api.Step{symmetry(0, 1, -2)}, 0, api.ErrProof}, {both, [][]int{{1, 2, 3}}, []api.Step{symmetry(0, 1, -2)}, 0, api.ErrProof},
 		{both, [][]int{swap}, []api.Step{learn(1, -2, 2), symmetry(0, 1, 2, -1, 2)}, 2, api.OK}, {both, [][]int{swap}, []api.Step{learn(1, -2, 2), symmetry(0, -2, 1, -1)}, 1, api.ErrProof}, {both, [][]int{swap}, []api.Step{learn(1, -2, 2), symmetry(0, 2, -1, 1)}, 2, api.OK},
 		{both, [][]int{swap}, []api.Step{define(3, 1), symmetry(0, -3, 2)}, 1, api.ErrProof}, {both, [][]int{swap}, []api.Step{remove(1, -2), symmetry(0, -1, 2)}, 1, api.ErrProof}, {both, [][]int{swap}, []api.Step{remove(1, -2), symmetry(0, 1, -2)}, 2, api.OK},
-		{both, [][]int{swap}, []api.Step{symmetry(0, 3)}, 0, api.ErrProof}, {formula(1, []int{}), [][]int{{-1}}, []api.Step{symmetry(0)}, 1, api.OK},
+		{formula(2, []int{1}, []int{2}), [][]int{swap}, []api.Step{remove(2), symmetry(0, 2), learn(2), remove(1), learn(1)}, 4, api.ErrProof}, {both, [][]int{swap}, []api.Step{symmetry(0, 3)}, 0, api.ErrProof}, {formula(1, []int{}), [][]int{{-1}}, []api.Step{symmetry(0)}, 1, api.OK},
 	} {
 		got, e := Check(x.f, x.syms, x.l)
 		if got != x.want || e != x.e {
@@ -54,6 +54,12 @@ func TestCheck(t *testing.T) {
 		}
 	}
 	long := make([]api.Step, api.MaxProof+1)
+	for i := range long {
+		long[i] = learn(1, -1)
+	}
+	if i, e := Check(formula(1), nil, long[1:]); i != api.MaxProof || e != api.OK {
+		t.Errorf("as many steps as possible: %d, %d", i, e)
+	}
 	if i, e := Check(square, nil, long); i != 0 || e != api.ErrLimit || Refutes(formula(0, []int{}), nil, long) {
 		t.Errorf("too many steps: %d, %d", i, e)
 	}

@@ -54,7 +54,7 @@ func scope(steps int, atoms ...int) api.Scope { return api.Scope{Atoms: atoms, S
 func TestExamples(t *testing.T) {
 	sp := spec(t, "sort A; field f: A;")
 	c := sample.New(0).Circuit(1, 0)
-	for in, want := range map[string]api.Ref{"some univ": 0, "no f": 3, "#f < 1": 3, "some f": 2, "one f": 2, "lone f": 0, "f in A": 0, "A in f": 1, "f = f": 0, "f in none": 3, "not no f": 2} {
+	for in, want := range map[string]api.Ref{"true": 0, "false": 1, "false until true": 0, "some univ": 0, "no f": 3, "#f < 1": 3, "some f": 2, "one f": 2, "lone f": 0, "f in A": 0, "A in f": 1, "f = f": 0, "f in none": 3, "not no f": 2} {
 		d, r, e := compile.Formula(sp, scope(1, 2), [][]api.Matrix{{mat(1, 0, 2)}}, 0, 0, nil, c, formula(t, in))
 		if r != want || e != api.OK || len(d.Gates) != 2 {
 			t.Errorf("%s: %d, %d, %v", in, r, e, d)
@@ -99,25 +99,26 @@ func TestExpressions(t *testing.T) {
 
 // P17.1, P17.2: errors, which leave the circuit as it was.
 func TestErrors(t *testing.T) {
-	sp := spec(t, "sort A; sort B; field f: A -> A; field g: A; field g: B; pred p[x: A] { true }")
+	sp := spec(t, "sort A; sort B; sort C ordered; field f: A -> A; field g: A; field g: B; pred p[x: A] { true }")
 	sp.Fields[1].Name, sp.Fields = "u", append(sp.Fields, api.Field{Name: "B", Sorts: []int{0}})
 	c := sample.New(0).Circuit(2, 0)
 	states := [][]api.Matrix{{mat(2, 1, 2), mat(1, 0, 2, 1, 4), mat(1, 2, 4), mat(1)}}
+	sc := scope(1, 2, 1, 1)
 	for in, want := range map[string]api.Errno{"some B": 44, "some nothing": 40, "some f + u": 42, "some f & u": 42, "some f - u": 42, "some f ++ u": 42, "f in u": 42, "f = u": 42, "some ~u": 42, "some ^u": 42, "some *u": 42, "some u . u": 42,
-		"some (f -> u) -> u": 42, "some f . f . f . (f -> u)": 0, "all x: f | some nothing": 42, "no {x: f | true}": 42, "all x: u | some nothing": 40, "all x: none | some nothing": 0, "p[u]": 45, "p[nothing]": 40, "some u && p[f + u]": 42,
+		"some (f -> u) -> u": 42, "some (f -> u) . (f -> u)": 42, "some (f -> u) . f": 0, "some A_first": 40, "some A_next": 40, "some C_last": 40, "some C_first": 0, "some f . f . f . (f -> u)": 0, "all x: f | some nothing": 42, "no {x: f | true}": 42, "all x: u | some nothing": 40, "all x: none | some nothing": 0, "p[u]": 45, "p[nothing]": 40, "some u && p[f + u]": 42,
 		"some f + f . f && some nothing": 40, "some u || some u && p[u]": 45} {
-		d, r, e := compile.Formula(sp, scope(1, 2, 1), states, 0, 0, nil, c, formula(t, in))
+		d, r, e := compile.Formula(sp, sc, states, 0, 0, nil, c, formula(t, in))
 		if e != want || e != api.OK && (r != 0 || !slices.Equal(d.Gates, c.Gates)) {
 			t.Errorf("%s: %d, %d", in, r, e)
 		}
 	}
-	if d, r, e := compile.Formula(sp, scope(1, 2, 1), states, 0, 0, nil, c, api.Node{Op: api.OpUniv}); e != api.ErrKind || r != 0 || !slices.Equal(d.Gates, c.Gates) {
+	if d, r, e := compile.Formula(sp, sc, states, 0, 0, nil, c, api.Node{Op: api.OpUniv}); e != api.ErrKind || r != 0 || !slices.Equal(d.Gates, c.Gates) {
 		t.Errorf("a relation: %d, %d", r, e)
 	}
-	if d, m, e := compile.Expr(sp, scope(1, 2, 1), states, 0, 0, nil, c, api.Node{Op: api.OpLit}); e != api.ErrKind || !reflect.DeepEqual(m, api.Matrix{}) || !slices.Equal(d.Gates, c.Gates) {
+	if d, m, e := compile.Expr(sp, sc, states, 0, 0, nil, c, api.Node{Op: api.OpLit}); e != api.ErrKind || !reflect.DeepEqual(m, api.Matrix{}) || !slices.Equal(d.Gates, c.Gates) {
 		t.Errorf("an integer: %v, %d", m, e)
 	}
-	if d, m, e := compile.Expr(sp, scope(1, 2, 1), states, 0, 0, nil, c, formula(t, "no (u -> u) + nothing").Kids[0]); e != api.ErrName || !reflect.DeepEqual(m, api.Matrix{}) || !slices.Equal(d.Gates, c.Gates) {
+	if d, m, e := compile.Expr(sp, sc, states, 0, 0, nil, c, formula(t, "no (u -> u) + nothing").Kids[0]); e != api.ErrName || !reflect.DeepEqual(m, api.Matrix{}) || !slices.Equal(d.Gates, c.Gates) {
 		t.Errorf("an unknown name: %v, %d", m, e)
 	}
 }

@@ -2,6 +2,7 @@ package eval_test
 
 import (
 	"reflect"
+	"slices"
 	"testing"
 
 	"armature/api"
@@ -11,6 +12,7 @@ import (
 	"armature/printer"
 	"armature/relation"
 	"armature/sample"
+	"armature/typing"
 	"armature/universe"
 )
 
@@ -107,7 +109,7 @@ func TestErrors(t *testing.T) {
 		in string
 		e  api.Errno
 	}{
-		{"some A", 44}, {"some b", 44}, {"some nothing", 40}, {"some f + t", 42}, {"some f & g", 42}, {"some f - t", 42}, {"some f ++ g", 42}, {"f in g", 42}, {"f = t", 42}, {"some ~g", 42}, {"some ^t", 42}, {"some *g", 42},
+		{"some A", 44}, {"some b", 44}, {"some nothing", 40}, {"some A_first", 40}, {"some A_next", 40}, {"some B_last", 40}, {"some B_", 40}, {"some f + t", 42}, {"some f & g", 42}, {"some f - t", 42}, {"some f ++ g", 42}, {"f in g", 42}, {"f = t", 42}, {"some ~g", 42}, {"some ^t", 42}, {"some *g", 42},
 		{"some g . g", 42}, {"some t . t", 42}, {"some t -> g", 42}, {"p[g]", 45}, {"p[nothing]", 40}, {"p[g, b]", 44}, {"false && some nothing", 40}, {"true || some nothing", 40}, {"false => some nothing", 40},
 		{"some f + t && some nothing", 42}, {"some nothing && some f + t", 40}, {"some nothing + (f + t)", 40}, {"some (f + t) + nothing", 42}, {"#nothing < #~g", 40}, {"#~g = #nothing", 42},
 		{"all y: f | some nothing", 42}, {"no {y: f | some nothing}", 42}, {"all y: none | some nothing", 0}, {"all y: g | some nothing", 0}, {"all y: g' | some nothing", 40}, {"after (all y: g | some nothing)", 40},
@@ -304,5 +306,67 @@ func TestIndependence(t *testing.T) {
 		if x.value(t, f, 0, more) != want {
 			t.Fatalf("%s with more bindings", printer.Formula(f))
 		}
+	}
+}
+
+// T2: values respect types.
+func TestTypes(t *testing.T) {
+	s := sample.New(4)
+	for range 1000 {
+		x := newSetting(s)
+		n := x.Relation(x.sp, []string{"x"}, s.Between(1, 3), 4, true)
+		types, e := typing.Type(x.sp, []api.Param{{Name: "x", Sort: universe.SortOf(x.m.Scope, x.env[0].Atom)}}, n)
+		if e != api.OK {
+			t.Fatalf("%s: %d", printer.Formula(n), e)
+		}
+		r := x.relation(t, n, x.env)
+		for _, rank := range r.Tuples {
+			var sorts []int
+			for _, atom := range universe.Tuple(x.m.Scope, r.Arity, rank) {
+				sorts = append(sorts, universe.SortOf(x.m.Scope, atom))
+			}
+			if !slices.ContainsFunc(types, func(y []int) bool { return slices.Equal(y, sorts) }) {
+				t.Fatalf("%s: a tuple of the sorts %v, types %v", printer.Formula(n), sorts, types)
+			}
+		}
+	}
+}
+
+// T2: a call denotes the body of its predicate with the arguments in place of the parameters.
+func TestExpansion(t *testing.T) {
+	s := sample.New(5)
+	both := 0
+	for range 1000 {
+		x := newSetting(s)
+		sort := s.Below(len(x.sp.Sorts))
+		q := api.Pred{Name: "p", Params: []api.Param{{Name: "y", Sort: sort}, {Name: "g", Sort: sort}}, Body: x.Formula(x.sp, []string{"y", "g"}, 4, true)}
+		x.sp.Preds = []api.Pred{q}
+		domain := api.Node{Op: api.OpName, Name: x.sp.Sorts[sort].Name}
+		name := func(s string) api.Node { return api.Node{Op: api.OpName, Name: s} }
+		// The variables of the formula have the names of fields and of a parameter, which must not be captured.
+		call := api.Node{Op: api.OpCall, Name: "p", Kids: []api.Node{name("f"), name("y")}}
+		n := api.Node{Op: api.OpAll, Name: "y", Kids: []api.Node{domain, {Op: api.OpExists, Name: "f", Kids: []api.Node{domain, call}}}}
+		want := true
+		first, end := universe.First(x.m.Scope, sort), universe.First(x.m.Scope, sort+1)
+		for second := first; second < end; second++ {
+			some := false
+			for atom := first; atom < end; atom++ {
+				some = x.value(t, q.Body, 0, []api.Binding{{Name: "y", Atom: atom}, {Name: "g", Atom: second}}) || some
+			}
+			want = want && some
+		}
+		got, e := eval.Holds(x.sp, x.m, n)
+		if e == api.ErrLimit {
+			continue
+		}
+		if e != api.OK || got != want {
+			t.Fatalf("%s%s: %t, %d", printer.Spec(x.sp), printer.Formula(n), got, e)
+		}
+		if want {
+			both++
+		}
+	}
+	if both < 200 || both > 800 {
+		t.Errorf("%d of 1000 are true", both)
 	}
 }

@@ -265,6 +265,29 @@ func TestRandom(t *testing.T) {
 	}
 }
 
+// P18.1, P18.3: formulas whose value depends on the loop.
+func TestLoops(t *testing.T) {
+	sp := spec(t, "sort A; var field f: A; fact a { always lone f }")
+	for steps := 2; steps <= 4; steps++ {
+		sc := scope(steps, 1)
+		b := bounds.Default(sp, sc)
+		for _, in := range []string{"always f in f'", "after after after after some f", "always (some f => no f')", "after after after no f => always some f'", "after after (some f until no f')", "eventually always some f"} {
+			n := formula(t, in)
+			c, r, e := lasso.Problem(sp, sc, b, n)
+			if e != api.OK {
+				t.Fatalf("%s: %d", in, e)
+			}
+			values := make([]bool, lasso.Inputs(sp, sc, b))
+			for more := true; more; more = next(values) {
+				holds, _ := eval.Holds(sp, lasso.Decode(sp, sc, b, values), n)
+				if circuit.Eval(c, values, r) != (oneLoop(sc, values) && holds) {
+					t.Fatalf("%s in %d steps, %s: %t", in, steps, bits(values), holds)
+				}
+			}
+		}
+	}
+}
+
 // inputsBelow reports whether the variables of a circuit are at most n.
 func inputsBelow(c api.Circuit, n int) bool {
 	return !slices.ContainsFunc(c.Gates, func(g api.Gate) bool { return g.Kind == api.GateInput && g.A > n })

@@ -113,13 +113,8 @@ func (w *narrower) outside(a, b api.Rel) api.Rel {
 	return relation.Diff(relation.Override(w.atoms, a, b), b)
 }
 
-// field returns the index of the field that a name denotes, or -1.
+// field returns the index of the field with a name, or -1.
 func (w *narrower) field(name string) int {
-	for _, p := range w.env {
-		if p.Name == name {
-			return -1
-		}
-	}
 	for i, f := range w.sp.Fields {
 		if f.Name == name {
 			return i

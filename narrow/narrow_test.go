@@ -10,6 +10,7 @@ import (
 	"armature/eval"
 	"armature/narrow"
 	"armature/parser"
+	"armature/permute"
 	"armature/printer"
 	"armature/relation"
 	"armature/sample"
@@ -78,7 +79,7 @@ func TestUpper(t *testing.T) {
 		{"x", rel(1), rel(1, 2, 3)}, {"f", rel(1, 0), rel(1, 0, 1)}, {"g'", rel(2, 1), rel(2, 1, 4, 5)}, {"A", rel(1, 0, 1), rel(1, 0, 1)}, {"B_first", rel(1, 2), rel(1, 2)}, {"B_next", rel(2, 11), rel(2, 11)},
 		{"none[3]", rel(3), rel(3)}, {"univ", rel(1, 0, 1, 2, 3), rel(1, 0, 1, 2, 3)}, {"iden", rel(2, 0, 5, 10, 15), rel(2, 0, 5, 10, 15)}, {"g + h", rel(2, 1, 2), rel(2, 1, 2, 4, 5, 7)},
 		{"f & x", rel(1), rel(1)}, {"A & f", rel(1, 0), rel(1, 0, 1)}, {"f . g", rel(1, 1), rel(1, 0, 1)}, {"f -> x", rel(2), rel(2, 2, 3, 6, 7)}, {"A - f", rel(1), rel(1, 1)}, {"f - A", rel(1), rel(1)},
-		{"univ - x", rel(1, 0, 1), rel(1, 0, 1, 2, 3)}, {"g ++ h", rel(2, 2), rel(2, 2, 4, 5, 7)}, {"h ++ g", rel(2, 1), rel(2, 1, 4, 5, 7)}, {"g ++ (A -> A)", rel(2, 0, 1, 4, 5), rel(2, 0, 1, 4, 5)},
+		{"univ - x", rel(1, 0, 1), rel(1, 0, 1, 2, 3)}, {"g ++ none[2]", rel(2, 1), rel(2, 1, 4, 5)}, {"none[2] ++ g", rel(2, 1), rel(2, 1, 4, 5)}, {"g ++ h", rel(2, 2), rel(2, 2, 4, 5, 7)}, {"h ++ g", rel(2, 1), rel(2, 1, 4, 5, 7)}, {"g ++ (A -> A)", rel(2, 0, 1, 4, 5), rel(2, 0, 1, 4, 5)},
 		{"~g", rel(2, 4), rel(2, 1, 4, 5)}, {"^g", rel(2, 1), rel(2, 0, 1, 4, 5)}, {"*g", rel(2, 0, 1, 5, 10, 15), rel(2, 0, 1, 4, 5, 10, 15)}, {"{y: f | y in y}", rel(1), rel(1, 0, 1)}, {"{x: B | x in x}", rel(1), rel(1, 2, 3)},
 	} {
 		got, e := narrow.Upper(sp, sc, b, env, formula(t, "no "+x.in).Kids[0])
@@ -308,6 +309,40 @@ func checkInterval(t *testing.T, s *sample.Source, sp api.Spec, m api.Model, b [
 			if e != api.OK || !relation.In(wide.Lower, r) || !relation.In(r, wide.Upper) {
 				t.Fatalf("%s: %v is not in %v", printer.Formula(n), r, wide)
 			}
+		}
+	}
+}
+
+// T3: narrowing and evaluation commute with permutations that leave the atoms of ordered sorts in place.
+func TestSymmetry(t *testing.T) {
+	s := sample.New(2)
+	for range 500 {
+		sp := s.Spec(sample.Small)
+		for i := range sp.Sorts {
+			sp.Sorts[i].Ordered = false
+		}
+		sp.Preds, sp.Facts = nil, nil
+		sc := s.Scope(sp, 3, 2)
+		b := s.Bounds(sp, sc, 20)
+		n := constraint(s, sp)
+		p := sample.Pick(s, permute.All(sc))
+		image := func(b []api.Bound) []api.Bound {
+			var out []api.Bound
+			for _, x := range b {
+				out = append(out, api.Bound{Lower: permute.Rel(sc, p, x.Lower), Upper: permute.Rel(sc, p, x.Upper)})
+			}
+			return out
+		}
+		got, e := narrow.Fixpoint(sp, sc, b, n)
+		moved, f := narrow.Fixpoint(sp, sc, image(b), n)
+		if e != f || !bounds.Equal(image(got), moved) {
+			t.Fatalf("%s: %v and %v under %v", printer.Formula(n), got, moved, p)
+		}
+		m := s.Model(sp, sc, b)
+		x, _ := eval.Holds(sp, m, n)
+		y, _ := eval.Holds(sp, permute.Model(p, m), n)
+		if x != y {
+			t.Fatalf("%s: %v under %v", printer.Formula(n), m, p)
 		}
 	}
 }

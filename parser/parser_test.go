@@ -415,7 +415,7 @@ func TestValidNode(t *testing.T) {
 	node := func(op int, kids ...api.Node) api.Node { return api.Node{Op: op, Kids: kids} }
 	lit := func(n int) api.Node { return api.Node{Op: api.OpLit, N: n} }
 	compr := api.Node{Op: api.OpCompr, Name: "x", Kids: []api.Node{name("A"), leaf(api.OpTrue)}}
-	good := []api.Node{name("a"), name("abcdefghijklmnop"), name("A_1"), leaf(api.OpUniv), leaf(api.OpIden), {Op: api.OpNone, N: 1}, {Op: api.OpNone, N: 3},
+	good := []api.Node{name("a"), name("abcdefghijklmnop"), name("A_1"), name("z"), name("Z"), name("Az0"), name("Zz9"), leaf(api.OpUniv), leaf(api.OpIden), {Op: api.OpNone, N: 1}, {Op: api.OpNone, N: 3},
 		lit(64), lit(-64), leaf(api.OpTrue), {Op: api.OpCall, Name: "p"}, node(api.OpUnion, name("a"), compr), node(api.OpLess, lit(1), node(api.OpCard, compr))}
 	for _, n := range good {
 		if !ValidNode(n) {

@@ -54,7 +54,7 @@ func TestTypes(t *testing.T) {
 	}{
 		{"A", [][]int{{0}}}, {"f", [][]int{{0, 1}}}, {"t", [][]int{{0, 1, 0}}}, {"A . f", [][]int{{1}}}, {"f . f", nil}, {"none[2]", nil},
 		{"univ", [][]int{{0}, {1}, {2}}}, {"iden", [][]int{{0, 0}, {1, 1}, {2, 2}}}, {"B_next", [][]int{{1, 1}}}, {"h'", [][]int{{0, 0}}},
-		{"gg + f", [][]int{{0, 1}, {0, 2}}}, {"C + B + A", [][]int{{0}, {1}, {2}}}, {"(A + B) & (B + C)", [][]int{{1}}}, {"f & gg", nil},
+		{"gg + f", [][]int{{0, 1}, {0, 2}}}, {"C + B + A", [][]int{{0}, {1}, {2}}}, {"(A + B) & (B + C)", [][]int{{1}}}, {"f & gg", nil}, {"A & A", [][]int{{0}}}, {"A & (B + A)", [][]int{{0}}},
 		{"(A + B) - A", [][]int{{0}, {1}}}, {"f ++ gg", [][]int{{0, 1}, {0, 2}}}, {"(A + B) -> C", [][]int{{0, 2}, {1, 2}}},
 		{"~(f + gg)", [][]int{{1, 0}, {2, 0}}}, {"^(f + B -> C)", [][]int{{0, 1}, {0, 2}, {1, 2}}}, {"*f", [][]int{{0, 0}, {0, 1}, {1, 1}, {2, 2}}},
 		{"^(A -> B + B -> C + C -> A)", [][]int{{0, 0}, {0, 1}, {0, 2}, {1, 0}, {1, 1}, {1, 2}, {2, 0}, {2, 1}, {2, 2}}},
@@ -220,6 +220,8 @@ func TestInlineLimits(t *testing.T) {
 		{"pred p[] { " + strings.Repeat("not ", 20) + "true }", "not not not p[]", api.OK},                       // 24 levels
 		{"pred p[] { " + strings.Repeat("not ", 20) + "true }", "not not not not p[]", api.ErrLimit},             // 25 levels
 		{"pred z[x: A] { true } pred q[] { z[A+A+A+A+A+A+A+A+A+A+A+A+A+A+A+A+A+A+A+A] }", or("q[]", 20), api.OK}, // cost 39 + 20*41
+		{"pred p[] { some A }", "not not " + or("p[]", 133), api.OK},                                             // 2 + 133*2 + 132 = 400 nodes
+		{"pred p[] { some A }", "not not not " + or("p[]", 133), api.ErrLimit},                                   // 401 nodes
 		{cheap(97), "c[]", api.OK},
 		{cheap(98), "c[]", api.ErrLimit},
 	} {

@@ -55,12 +55,12 @@ func propagated(f api.CNF, assume []int) (p *propagator) {
 			p = &propagator{conflict: noConflict}
 		}
 	}()
+	if contradict(assume) {
+		return &propagator{conflict: contradictory}
+	}
 	p = newPropagator(f)
 	for _, x := range assume {
-		switch p.value(x) {
-		case -1:
-			return &propagator{conflict: contradictory}
-		case 0:
+		if p.value(x) == 0 {
 			p.assign(x)
 		}
 	}
@@ -75,6 +75,18 @@ func propagated(f api.CNF, assume []int) (p *propagator) {
 		p.assign(p.Clauses[i][unit])
 	}
 	return p
+}
+
+// contradict reports whether a list contains a literal and its negative.
+func contradict(lits []int) bool {
+	seen := map[int]bool{}
+	for _, x := range lits {
+		if seen[-x] {
+			return true
+		}
+		seen[x] = true
+	}
+	return false
 }
 
 // newPropagator returns a propagator with an empty trail.
