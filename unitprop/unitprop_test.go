@@ -274,3 +274,24 @@ func TestMemory(t *testing.T) {
 		t.Error("results share memory")
 	}
 }
+
+// P20.1: implications that take many passes over the clauses.
+func TestChains(t *testing.T) {
+	for _, length := range []int{2, 7, 8, 9, 10, 11, 300} {
+		// Each pass in the order of the formula implies one more literal, and only the last one leads to a conflict.
+		f := formula(length+1, []int{-length, length + 1}, []int{-length, -length - 1})
+		for v := length - 1; v >= 1; v-- {
+			f.Clauses = append(f.Clauses, []int{-v, v + 1})
+		}
+		if !Implies(f, []int{-1}) || !Implies(f, []int{-length}) || !Implies(f, []int{-1, length + 1}) || Implies(f, []int{1}) || Implies(f, nil) {
+			t.Errorf("a chain of %d literals", length)
+		}
+		free := api.CNF{Vars: f.Vars, Clauses: f.Clauses[2:]}
+		if Implies(free, []int{-1}) || !Implies(free, []int{-1, length}) || Implies(free, []int{-2, 1}) {
+			t.Errorf("a free chain of %d literals", length)
+		}
+		if implied, conflict := Propagate(free, []int{1}); len(implied) != length-1 || conflict != -1 {
+			t.Errorf("a chain of %d literals: %v", length, implied)
+		}
+	}
+}
